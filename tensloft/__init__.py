@@ -1,0 +1,1 @@
+"""Tensloft: numbers kept by tens in a machine of twos."""

@@ -1,0 +1,35 @@
+"""The interface: what is listed stands in its file, with its arguments."""
+
+import importlib
+import inspect
+import unittest
+
+FUNCTIONS = {
+    "tensloft.shapes": {
+        "shape": ["kind", "figures", "sign", "point"],
+        "least_of": ["shape"],
+        "most_of": ["shape"],
+        "folded": ["shape", "number"],
+    },
+    "tensloft.keeping": {
+        "kept": ["shape", "number"],
+        "bytes_of": ["shape"],
+        "number_of": ["shape", "row"],
+        "caught": ["shape", "row"],
+    },
+}
+
+
+class InterfaceTest(unittest.TestCase):
+    def test_functions_stand_in_their_files(self):
+        for file, functions in FUNCTIONS.items():
+            module = importlib.import_module(file)
+            for name, arguments in functions.items():
+                function = getattr(module, name)
+                self.assertTrue(inspect.isfunction(function), name)
+                self.assertEqual(function.__module__, file, name)
+                self.assertEqual(list(inspect.signature(function).parameters), arguments)
+
+
+if __name__ == "__main__":
+    unittest.main()
