@@ -99,3 +99,36 @@ def sample(shape):
     asked += [int("1234567890123"[:n]), -int("1234567890123"[:n])]
     asked += [int("9070503010204"[:n]), -int("4070503010204"[:n]), -int("1" + "0" * (n - 1))]
     return sorted({number for number in asked if least <= number <= most})
+
+
+def fold(shape, number):
+    """The folded number, by the last figures of texts."""
+    kind, n, sign, point = shape
+    last = int(str(abs(number)).rjust(n, "0")[-n:])
+    if sign == "end":
+        return -last if number < 0 else last
+    if number < 0 and last:
+        last = int("1" + "0" * n) - last
+    if sign == "tens" and str(last).rjust(n, "0")[0] in "56789":
+        last -= int("1" + "0" * n)
+    return last
+
+
+def kept_row(shape, number):
+    return row(kept_text(shape, number))
+
+
+def answer(shape, number):
+    """The row of bytes and the mark of an answer that is kept in the shape."""
+    least, most = ends(shape[1], shape[2])
+    return kept_row(shape, fold(shape, number)), 0 if least <= number <= most else 1
+
+
+def spellings(shape, number):
+    """All good rows of bytes that are read to the number."""
+    text = kept_text(shape, number)
+    if shape[2] != "end":
+        return [row(text)]
+    at = pattern_of(shape).index("s")
+    signs = "ABCDEF" if number == 0 else "BD" if number < 0 else "ACEF"
+    return [row(text[:at] + half + text[at + 1:]) for half in signs]

@@ -17,6 +17,23 @@ FUNCTIONS = {
         "number_of": ["shape", "row"],
         "caught": ["shape", "row"],
     },
+    "tensloft.texts": {
+        "written": ["shape", "number"],
+        "told": ["shape", "text"],
+        "hexed": ["row"],
+        "unhexed": ["text"],
+    },
+    "tensloft.machine": {
+        "run": ["program", "cells", "mark"],
+    },
+    "tensloft.lines": {
+        "rows_written": ["rows"],
+        "rows_told": ["text"],
+    },
+    "tensloft.sums": {
+        "sum_rows": ["shape"],
+        "sum_parts": ["figures"],
+    },
 }
 
 

@@ -19,6 +19,11 @@ BARRED_WORDS = (
     "type typing typing_extensions enum Enum IntEnum StrEnum Flag IntFlag Generic Protocol ABC ABCMeta namedtuple "
     "NamedTuple TypedDict TYPE_CHECKING abstractmethod"
 ).split()
+BUILTIN_METHODS = (
+    "append clear copy count endswith extend find get index insert isalnum isalpha isdigit islower isspace isupper "
+    "items join keys ljust lower lstrip partition pop remove replace reverse rfind rjust rpartition rsplit rstrip "
+    "setdefault split splitlines startswith strip update upper values zfill bit_length removeprefix removesuffix"
+).split()
 BARRED_NODES = (ast.Global, ast.AsyncFunctionDef, ast.AsyncFor, ast.AsyncWith, ast.Await, ast.Div, ast.Import)
 
 
@@ -68,6 +73,28 @@ class LanguageTest(unittest.TestCase):
                 self.assertNotIsInstance(node.value, (float, complex), name)
                 if isinstance(node.value, str):
                     self.assertNotIn("%", node.value, name)
+
+    def test_module_level(self):
+        for name, tree in self.trees():
+            for node in tree.body[1:]:
+                self.assertIsInstance(node, (ast.ImportFrom, ast.FunctionDef, ast.ClassDef, ast.Assign), name)
+                if isinstance(node, ast.Assign):
+                    self.assertEqual([type(target) for target in node.targets], [ast.Name], name)
+                    for inner in ast.walk(node.value):
+                        self.assertNotIsInstance(inner, (ast.Call, ast.Lambda, ast.ListComp, ast.GeneratorExp), name)
+
+    def test_methods_are_own_or_allowed(self):
+        own = [node.name for name, node in self.nodes() if isinstance(node, ast.FunctionDef)]
+        for name, node in self.nodes():
+            if isinstance(node, ast.Call) and isinstance(node.func, ast.Attribute):
+                self.assertIn(node.func.attr, own + BUILTIN_METHODS, (name, node.lineno))
+
+    def test_what_is_iterated_at_once_comes_first(self):
+        for name, node in self.nodes():
+            if isinstance(node, ast.Call) and isinstance(node.func, ast.Name) and node.func.id == "zip":
+                for argument in node.args[1:]:
+                    called = argument.func if isinstance(argument, ast.Call) else None
+                    self.assertNotIn(getattr(called, "id", None), ("zip", "enumerate", "reversed", "range"), name)
 
     def test_exponents_are_literal(self):
         for name, node in self.nodes():

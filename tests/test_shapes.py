@@ -4,7 +4,7 @@ import itertools
 import string
 import unittest
 
-from oracle import KINDS, LENGTHS, SIGNS, all_shapes, ends
+from oracle import KINDS, LENGTHS, SIGNS, all_shapes, ends, fold
 from tensloft.errors import NoShape
 from tensloft.shapes import fits, folded, least_of, most_of, shape
 
@@ -123,16 +123,6 @@ class FoldedTest(unittest.TestCase):
             asked += [long_one, -long_one, 10 ** figures - 1, 1 - 10 ** figures]
         return asked
 
-    def folded_text(self, n, sign, number):
-        last = int(str(abs(number)).rjust(n, "0")[-n:])
-        if sign == "end":
-            return -last if number < 0 else last
-        if number < 0 and last:
-            last = int("1" + "0" * n) - last
-        if sign == "tens" and str(last).rjust(n, "0")[0] in "56789":
-            last -= int("1" + "0" * n)
-        return last
-
     def test_written_out(self):
         for sign, number, wanted in (
             ("none", 100, 0), ("none", 101, 1), ("none", -1, 99), ("none", -100, 0), ("none", -101, 99),
@@ -150,7 +140,7 @@ class FoldedTest(unittest.TestCase):
             for number in self.numbers(n, sign):
                 answer = folded(asked, number)
                 self.assertIs(type(answer), int)
-                self.assertEqual(answer, self.folded_text(n, sign, number), (asked, number))
+                self.assertEqual(answer, fold(asked, number), (asked, number))
 
     def test_a_number_that_fits_is_itself_and_no_other_is(self):
         for asked in all_shapes((1, 2, 3)):
