@@ -34,6 +34,17 @@ FUNCTIONS = {
         "sum_rows": ["shape"],
         "sum_parts": ["figures"],
     },
+    "tensloft.differences": {
+        "difference_rows": ["shape"],
+        "compare_rows": ["shape"],
+    },
+    "tensloft.rekept": {
+        "rekept_rows": ["one", "other"],
+    },
+    "tensloft.points": {
+        "rounded": ["number", "by", "rule"],
+        "moved_rows": ["shape", "by", "rule"],
+    },
 }
 
 
