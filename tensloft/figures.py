@@ -82,6 +82,27 @@ def turn_where(sheet, number, below):
     add_mark(sheet, number)
 
 
+def take_sign(sheet, number):
+    """Takes the sign off the number; a cell that becomes 16 where it was below 0, else 0."""
+    below = below_nought(sheet, number)
+    turn_where(sheet, number, below)
+    return below
+
+
+def tell_unlike(sheet, below, other):
+    """The first of two cells that are 16 or 0 becomes 16 where they are unlike, else 0."""
+    sheet.do("add", below, other)
+    sheet.look(below, sixteen_alone)
+
+
+def noughts(sheet, many):
+    """A list of so many cells that become 0."""
+    cells = sheet.fresh(many)
+    for cell in cells:
+        sheet.do("put", cell, 0)
+    return cells
+
+
 def mark_where(sheet, cell):
     """The mark becomes 1 where the cell isn't 0, else 0."""
     spare = sheet.fresh_cell()
@@ -90,23 +111,21 @@ def mark_where(sheet, cell):
 
 
 def any_of(sheet, cells):
-    """A cell that becomes 0 where all these are 0, else 1 to 15, if each is below 16."""
-    found = sheet.fresh_cell()
-    sheet.do("put", found, 0)
+    """A cell that becomes 0 where all these are 0, else another byte: 1 to 15, if each is below 16."""
+    found = noughts(sheet, 1)[0]
     for cell in cells:
         sheet.do("or", found, cell)
     return found
 
 
-def keep_number(sheet, shape, number):
-    """Keeps the number, folded, from cell 0 on and uses it up; the mark is 0 where it fits, else 1."""
+def keep_number(sheet, shape, number, at=0):
+    """Keeps the number, folded, from a cell on and uses it up; the mark is 0 where it fits, else 1."""
     kind, figures, sign, point = shape
     inside = number[:figures]
     beyond = number[figures:]
     signed = None
     if sign == "end":
-        below = below_nought(sheet, number)
-        turn_where(sheet, number, below)
+        below = take_sign(sheet, number)
         signed = any_of(sheet, inside)
         sheet.do("or", signed, below)
         sheet.look(signed, sign_half)
@@ -116,7 +135,7 @@ def keep_number(sheet, shape, number):
             sheet.do("or", cell, below)
             sheet.look(cell, nought_where_alike)
     mark_where(sheet, any_of(sheet, beyond))
-    lay_halves(sheet, 0, halves_in_work(sheet, shape, inside, signed))
+    lay_halves(sheet, at, halves_in_work(sheet, shape, inside, signed))
 
 
 def halves_in_work(sheet, shape, figures, signed):
@@ -174,6 +193,11 @@ def nine_from_five_on(byte):
 def sixteen_from_five_on(byte):
     """16 for the first figure of a number below 0."""
     return 16 if byte >= 5 else 0
+
+
+def sixteen_alone(byte):
+    """16 for 16, else 0."""
+    return 16 if byte == 16 else 0
 
 
 def sixteen_where_minus(byte):

@@ -1,7 +1,7 @@
 """Numbers moved by tens and rounded, and programs for it ([22], [23], [36])."""
 
 from tensloft.errors import NoRule, TooLong
-from tensloft.figures import add_mark, any_of, below_nought, keep_number, mark_where, read_number, turn_where
+from tensloft.figures import add_mark, any_of, keep_number, mark_where, noughts, read_number, take_sign, turn_where
 from tensloft.powers import ten_to
 from tensloft.sheets import Sheet
 
@@ -14,7 +14,7 @@ A_HALF = 2
 ABOVE_A_HALF = 3
 
 # What a table of a rule is looked up by: the first figure that is lost, and these.
-# The first of them is what below_nought tells.
+# The first of them is what take_sign tells.
 BELOW_NOUGHT = 16
 MORE_LOST = 32
 ODD = 64
@@ -79,18 +79,9 @@ def moved_rows(shape, by, rule):
     return sheet.program()
 
 
-def noughts(sheet, many):
-    """A list of so many cells that become 0."""
-    cells = sheet.fresh(many)
-    for cell in cells:
-        sheet.do("put", cell, 0)
-    return cells
-
-
 def rounded_off(sheet, number, many, rule):
     """The number without its last figures, so many, rounded by the rule."""
-    below = below_nought(sheet, number)
-    turn_where(sheet, number, below)
+    below = take_sign(sheet, number)
     size = number[many:]
     mark_one_more(sheet, number[:many], size, below, rule)
     add_mark(sheet, size)

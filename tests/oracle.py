@@ -1,5 +1,7 @@
 """What the tests measure the program by: rows written as texts of figures and letters."""
 
+import decimal
+
 KINDS = ("packed", "spread")
 SIGNS = ("none", "end", "tens")
 LENGTHS = tuple(range(1, 13))
@@ -10,6 +12,16 @@ PATTERN = {
     "f": ("figure", "0123456789"),
     "z": ("zone", "F"),
     "s": ("sign", "ABCDEF"),
+}
+
+# The rules, as Python's decimal numbers name them.
+MODES = {
+    "cut": decimal.ROUND_DOWN,
+    "up": decimal.ROUND_UP,
+    "half": decimal.ROUND_HALF_UP,
+    "even": decimal.ROUND_HALF_EVEN,
+    "floor": decimal.ROUND_FLOOR,
+    "ceil": decimal.ROUND_CEILING,
 }
 
 
@@ -132,3 +144,10 @@ def spellings(shape, number):
     at = pattern_of(shape).index("s")
     signs = "ABCDEF" if number == 0 else "BD" if number < 0 else "ACEF"
     return [row(text[:at] + half + text[at + 1:]) for half in signs]
+
+
+def moved(number, by, rule):
+    """The rounded number, by decimal numbers."""
+    with decimal.localcontext() as context:
+        context.prec = 200
+        return int(decimal.Decimal(number).scaleb(by).quantize(decimal.Decimal(1), rounding=MODES[rule]))

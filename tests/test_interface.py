@@ -45,6 +45,24 @@ FUNCTIONS = {
         "rounded": ["number", "by", "rule"],
         "moved_rows": ["shape", "by", "rule"],
     },
+    "tensloft.products": {
+        "product_rows": ["shape", "figures"],
+    },
+    "tensloft.quotients": {
+        "parted": ["one", "other"],
+        "quotient_rows": ["shape", "figures"],
+    },
+    "tensloft.twos": {
+        "by_twos": ["shape", "number", "many"],
+        "from_twos": ["shape", "row"],
+        "twos_rows": ["shape", "many"],
+        "tens_rows": ["shape", "many"],
+    },
+    "tensloft.papers": {
+        "sixes": ["figures", "one", "other"],
+        "tries": ["one", "other"],
+        "rounding": ["number", "by", "rule"],
+    },
 }
 
 

@@ -1,35 +1,18 @@
 """Numbers moved by tens and rounded, and programs for it: [22], [23], [36]."""
 
-import decimal
 import itertools
 import unittest
 
-from oracle import KINDS, LENGTHS, all_shapes, answer, ends, kept_row, spellings
+from oracle import KINDS, LENGTHS, MODES, all_shapes, answer, ends, kept_row, moved, spellings
 from tensloft import points
 from tensloft.errors import NoRule, TooLong
 from tensloft.points import moved_rows, rounded
 from trial import ProgramTest
 
-# The rules, as Python's decimal numbers name them.
-MODES = {
-    "cut": decimal.ROUND_DOWN,
-    "up": decimal.ROUND_UP,
-    "half": decimal.ROUND_HALF_UP,
-    "even": decimal.ROUND_HALF_EVEN,
-    "floor": decimal.ROUND_FLOOR,
-    "ceil": decimal.ROUND_CEILING,
-}
 RULES = tuple(MODES)
 NO_RULES = ("", " ", "Cut", "CUT", "cut ", " cut", "cuts", "cu", "c", "Up", "UP", "uq", "HALF", "Half", "hald", "even ",
             "Even", "EVEN", "evan", "floor ", "Floor", "FLOOR", "flour", "ceil\n", "Ceil", "CEIL", "ceiling", "ceel",
             "half even", "cut,up", "down", "none", "~", "0")
-
-
-def moved(number, by, rule):
-    """The rounded number, by decimal numbers."""
-    with decimal.localcontext() as context:
-        context.prec = 200
-        return int(decimal.Decimal(number).scaleb(by).quantize(decimal.Decimal(1), rounding=MODES[rule]))
 
 
 class RoundedTest(unittest.TestCase):
