@@ -21,10 +21,17 @@ def compare_rows(shape):
     number = difference(sheet, shape)
     order = any_of(sheet, number)
     sheet.do("or", order, below_nought(sheet, number))
-    sheet.look(order, order_of)
+    sheet.look(order, order_by_difference)
     sheet.do("copy", 0, order)
     sheet.do("mark", 0)
     return sheet.program()
+
+
+def order_of(one, other):
+    """The order of two numbers, as the program tells it."""
+    if one < other:
+        return LESS
+    return ALIKE if one == other else GREATER
 
 
 def difference(sheet, shape):
@@ -44,7 +51,7 @@ def nine_less(byte):
     return (9 - byte) % 256
 
 
-def order_of(byte):
+def order_by_difference(byte):
     """The order that a difference tells, whose figures together, and 16 if it is below 0, make this byte."""
     if byte >= 16:
         return LESS

@@ -26,10 +26,7 @@ def parted(one, other):
 def quotient_rows(shape, figures):
     """The program for quotient and rest by an operand of so many figures; refuses with TooLong."""
     kind, own, sign, point = shape
-    if own > MOST_DIVIDED:
-        raise TooLong(own)
-    if not 1 <= figures <= MOST_DIVIDING:
-        raise TooLong(figures)
+    refuse_long_ones(own, figures)
     sheet = Sheet()
     behind = bytes_of(shape)
     second = (kind, figures, sign, 0)
@@ -48,6 +45,14 @@ def quotient_rows(shape, figures):
     keep_number(sheet, shape, quotient)
     mark_too_where(sheet, nought)
     return sheet.program()
+
+
+def refuse_long_ones(own, figures):
+    """Refuses a dividend of too many figures, then a divisor of too many or none."""
+    if own > MOST_DIVIDED:
+        raise TooLong(own)
+    if not 1 <= figures <= MOST_DIVIDING:
+        raise TooLong(figures)
 
 
 def parted_by_tries(sheet, figures, other):

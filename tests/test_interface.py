@@ -58,10 +58,24 @@ FUNCTIONS = {
         "twos_rows": ["shape", "many"],
         "tens_rows": ["shape", "many"],
     },
+    "tensloft.least": {
+        "listed": ["tables", "menu", "starts", "most"],
+        "least": ["tables", "menu", "cases", "most"],
+        "least_holds": ["tables", "menu", "cases", "most", "told"],
+    },
+    "tensloft.checks": {
+        "does": ["deed", "kind", "program"],
+        "check_rows": ["shape"],
+    },
     "tensloft.papers": {
         "sixes": ["figures", "one", "other"],
         "tries": ["one", "other"],
         "rounding": ["number", "by", "rule"],
+    },
+    "tensloft.looks": {
+        "sixes_hold": ["figures", "one", "other", "paper"],
+        "tries_hold": ["one", "other", "paper"],
+        "rounding_holds": ["number", "by", "rule", "paper"],
     },
 }
 
@@ -75,6 +89,14 @@ class InterfaceTest(unittest.TestCase):
                 self.assertTrue(inspect.isfunction(function), name)
                 self.assertEqual(function.__module__, file, name)
                 self.assertEqual(list(inspect.signature(function).parameters), arguments)
+
+    def test_the_desk_stands_in_its_file(self):
+        module = importlib.import_module("tensloft.desk")
+        self.assertTrue(inspect.isclass(module.Desk))
+        self.assertEqual(module.Desk.__module__, "tensloft.desk")
+        self.assertEqual(list(inspect.signature(module.Desk).parameters), [])
+        self.assertTrue(inspect.isfunction(vars(module.Desk)["tell"]))
+        self.assertEqual(list(inspect.signature(module.Desk.tell).parameters), ["self", "line"])
 
 
 if __name__ == "__main__":
