@@ -129,6 +129,46 @@ class LanguageTest(unittest.TestCase):
             for word in taken:
                 self.assertLessEqual(bound.count(word), 1, (name, word))
 
+    def test_imports_are_used_and_of_the_very_file(self):
+        trees = dict(self.trees())
+        for name, tree in trees.items():
+            read = {node.id for node in ast.walk(tree) if isinstance(node, ast.Name)}
+            for node in tree.body:
+                if isinstance(node, ast.ImportFrom):
+                    defined = [word for inner in trees[node.module.split(".")[1] + ".py"].body for word in names_bound(inner)]
+                    for inner in trees[node.module.split(".")[1] + ".py"].body:
+                        if isinstance(inner, ast.Assign):
+                            defined += names_bound(inner.targets[0])
+                    for one in node.names:
+                        self.assertIn(one.name, defined, (name, one.name))
+                        self.assertIn(one.name, read, (name, one.name))
+
+    def test_no_two_files_import_from_each_other(self):
+        imports = {}
+        for name, tree in self.trees():
+            imports[name] = {node.module.split(".")[1] + ".py" for node in tree.body if isinstance(node, ast.ImportFrom)}
+        while imports:
+            free = [name for name in imports if not imports[name] & set(imports)]
+            self.assertNotEqual(free, [], imports)
+            for name in free:
+                del imports[name]
+
+    def test_no_name_is_a_method_and_an_attribute(self):
+        methods, attributes = set(), set()
+        for name, node in self.nodes():
+            if isinstance(node, ast.ClassDef):
+                methods |= {inner.name for inner in node.body if isinstance(inner, ast.FunctionDef)}
+            if isinstance(node, ast.Attribute) and isinstance(node.ctx, ast.Store):
+                attributes.add(node.attr)
+        self.assertEqual(methods & attributes, set())
+
+    def test_is_stands_beside_none_alone(self):
+        for name, node in self.nodes():
+            if isinstance(node, ast.Compare):
+                for sign, other in zip(node.ops, node.comparators):
+                    if isinstance(sign, (ast.Is, ast.IsNot)):
+                        self.assertTrue(isinstance(other, ast.Constant) and other.value in (None, True, False), name)
+
 
 if __name__ == "__main__":
     unittest.main()

@@ -206,7 +206,7 @@ class HoldsTest(LeastTest):
 
             yield put()
             yield put((word, state), (word, state))
-            for other in (word + (0,), word[1:], (9,), (-1,), word + (True,), tuple(bool(number) for number in word),
+            for other in (word + (0,), word[1:], (9,), (3,), (-1,), word[:-1] + (3,), word + (True,), tuple(bool(number) for number in word),
                           "word", None, 0, ("0",), ((),), (None,), word + (9,), (0,) * 5, tuple(str(k) for k in word)):
                 yield put((other, state))
             (cells, mark), *rest = state
